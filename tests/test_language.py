@@ -1,0 +1,94 @@
+"""Some of the rules of the language that the package keeps to: those that can be checked at a glance."""
+
+import ast
+import builtins
+import unittest
+from pathlib import Path
+
+PACKAGE = Path(__file__).resolve().parent.parent / "tosslanes"
+ALLOWED = """
+    len range enumerate zip min max sum abs sorted reversed int str bool bytes list tuple dict set frozenset
+    isinstance ord repr any all divmod iter next map super property staticmethod classmethod Exception ValueError
+    TypeError KeyError IndexError LookupError ZeroDivisionError ArithmeticError OverflowError RuntimeError
+    NotImplementedError AttributeError StopIteration NotImplemented
+""".split()
+LIBRARY = {
+    "heapq": ["heappush", "heappop", "heapify", "heapreplace", "heappushpop"],
+    "math": ["gcd", "lcm", "isqrt", "comb", "perm", "factorial"],
+    "itertools": ["product", "combinations", "permutations"],
+}
+STATEMENTS = (
+    ast.Global, ast.AsyncFor, ast.AsyncFunctionDef, ast.AsyncWith, ast.Await, ast.Import, ast.Div, ast.MatMult,
+)
+
+
+def bound_names(tree):
+    """All names that a file gives a meaning to."""
+    for node in ast.walk(tree):
+        if isinstance(node, (ast.FunctionDef, ast.ClassDef)):
+            yield node.name
+        elif isinstance(node, ast.arg):
+            yield node.arg
+        elif isinstance(node, ast.Name) and isinstance(node.ctx, ast.Store):
+            yield node.id
+
+
+class LanguageTests(unittest.TestCase):
+    def files(self):
+        paths = sorted(PACKAGE.rglob("*.py"))
+        self.assertGreater(len(paths), 1)
+        return [(path.name, path.read_text()) for path in paths]
+
+    def test_there_is_nothing_else(self):
+        there = [path for path in PACKAGE.rglob("*") if "__pycache__" not in path.parts]
+        self.assertEqual([path for path in there if path.suffix != ".py"], [])
+        self.assertIn(PACKAGE / "__init__.py", there)
+
+    def test_sizes_and_signs(self):
+        for name, text in self.files():
+            self.assertLessEqual(len(text.splitlines()), 399, name)
+            self.assertLessEqual(max(map(len, text.splitlines())), 120, name)
+            self.assertTrue(all(" " <= sign <= "~" or sign == "\n" for sign in text), name)
+            for node in ast.walk(ast.parse(text)):
+                if isinstance(node, ast.FunctionDef):
+                    self.assertLessEqual(node.end_lineno - node.lineno + 1, 40, node.name)
+
+    def test_statements(self):
+        for name, text in self.files():
+            for node in ast.walk(ast.parse(text)):
+                self.assertNotIsInstance(node, STATEMENTS, name)
+                if isinstance(node, ast.Constant):
+                    self.assertNotIsInstance(node.value, (float, complex), name)
+
+    def test_imports(self):
+        for name, text in self.files():
+            for node in ast.walk(ast.parse(text)):
+                if isinstance(node, ast.ImportFrom):
+                    with self.subTest(name, line=node.lineno):
+                        self.check_import(node)
+
+    def check_import(self, node):
+        self.assertEqual(node.level, 0)
+        names = [alias.name for alias in node.names]
+        if node.module in LIBRARY:
+            self.assertLessEqual(set(names), set(LIBRARY[node.module]))
+        else:
+            package, _, file = node.module.partition(".")
+            self.assertEqual(package, "tosslanes")
+            tree = ast.parse((PACKAGE / f"{file}.py").read_text())
+            defined = [part.name for part in tree.body if isinstance(part, (ast.FunctionDef, ast.ClassDef))]
+            defined += [part.targets[0].id for part in tree.body if isinstance(part, ast.Assign)]
+            self.assertLessEqual(set(names), set(defined))
+
+    def test_builtins(self):
+        there = [name for name in dir(builtins) if not name.startswith("__")]
+        for file, text in self.files():
+            tree = ast.parse(text)
+            read = [node.id for node in ast.walk(tree) if isinstance(node, ast.Name)]
+            used = [name for name in read if name in there]
+            self.assertEqual([name for name in used if name not in ALLOWED], [], file)
+            self.assertEqual([name for name in bound_names(tree) if name in there], [], file)
+
+
+if __name__ == "__main__":
+    unittest.main()

@@ -1,0 +1,1 @@
+"""Tosslanes: skip lists, exact over all coins."""
