@@ -1,7 +1,7 @@
 import unittest
 from itertools import product
 
-from told import LONG, Case, nested, no_integers, no_rows
+from told import LONG, NO_CHANCES, NO_RULES, Case, nested, no_integers, no_rows
 from tosslanes.coins import (
     coins_for, coins_of, heights_of, is_chance, is_coin, is_rule, most, toss,
 )
@@ -12,14 +12,6 @@ STEP = ("step",)
 RULES = [
     FREE, STEP, ("cap", 1), ("cap", 2), ("cap", 3), ("cap", 64), ("step", 1), ("step", 2), ("step", 3), ("step", 64),
 ]
-NO_RULES = [
-    (), [], ("free", 1), ("free", None), ("cap",), ("cap", 0), ("cap", 65), ("cap", -1), ("cap", LONG), ("cap", True),
-    ("cap", "3"), ("cap", None), ("cap", [3]), ("cap", 3, 3), ("step", 0), ("step", 65), ("step", -1),
-    ("step", True), ("step", False), ("step", None), ("step", ()), ("step", 3, 3), ("Free",), ("FREE",), ("",),
-    ("free ",), ("steps",), ("cups", 3), (b"free",), (b"cap", 3), (None,), (1,), (1, 3), (True, 3), ([], 3),
-    (("free",),), [["step"]], [("cap", 3)], (3, "cap"), nested(3), nested(3000), ["free", "free"], "step", "cap",
-]
-
 # Each function that takes a rule, as a function of it, the other arguments being right.
 RULE_TAKERS = [
     lambda rule: most(rule, 0), lambda rule: toss((0,), 0, rule, 0), lambda rule: coins_for(1, rule, 0),
@@ -90,11 +82,7 @@ class ChanceTests(Case):
             self.same(is_chance(thing), True)
 
     def test_no_chances(self):
-        wrong = [
-            (0, 1), (1, 1), (2, 1), (-1, 2), (1, -2), (1, 1001), (1000, 1001), (1,), (1, 2, 3), (), (True, 2),
-            (1, True), ("1", 2), (1, "2"), [None, 2], ((1, 2),), (False, 1),
-        ]
-        for thing in wrong + no_rows():
+        for thing in NO_CHANCES + no_rows():
             with self.subTest(thing):
                 self.same(is_chance(thing), False)
 

@@ -17,6 +17,35 @@ INTERFACE = {
         "most": "(rule, top)", "toss": "(coins, at, rule, top)", "coins_for": "(height, rule, top)",
         "coins_of": "(heights, rule)", "heights_of": "(coins, rule)",
     },
+    "searches": {
+        "steps": "(towers, key, manner, begin=None)", "cost": "(towers, key, manner, begin=None)",
+        "is_in": "(towers, key)", "before": "(towers, key)", "total": "(towers, manner)", "records": "(heights)",
+        "ways": "(many, index, cap, manner)",
+    },
+    "deeds": {
+        "inserted": "(towers, key, height)", "removed": "(towers, key)", "new_links": "(one, other)",
+        "run": "(history, coins, rule, manner='plain')", "stays": "(history)",
+        "is_by": "(history, coins, rule, towers)", "coins_to": "(history, towers, rule)",
+    },
+    "chances": {
+        "height_chance": "(chance, rule, height)", "top_chance": "(chance, rule, many, height)",
+        "top_mean": "(chance, rule, many)", "lane_chances": "(chance, rule, many, level)",
+        "links_mean": "(chance, rule, many)", "coins_chance": "(chance, rule, many, count)",
+        "coins_mean": "(chance, rule, many)", "record_chances": "(chance, rule, many, sort)",
+        "record_mean": "(chance, rule, many, sort)",
+        "cost_chance": "(chance, rule, many, index, manner, compares)",
+        "cost_above": "(chance, rule, many, index, manner, compares)",
+        "cost_chances": "(chance, rule, many, index, manner)", "cost_mean": "(chance, rule, many, index, manner)",
+        "cost_spread": "(chance, rule, many, index, manner)", "mean_total": "(chance, rule, many, manner)",
+        "rights_mean": "(chance, rule, many, index, manner)", "downs_mean": "(chance, rule, many, index, manner)",
+        "pair_chances": "(chance, rule, many, one, other, manner)",
+        "pair_mean": "(chance, rule, many, one, other, manner)", "cheapest": "(chances, rule, many, manner)",
+        "cut_by": "(chance, cap, many, manner)",
+    },
+    "ranks": {
+        "spans": "(towers)", "rank": "(towers, key)", "nth": "(towers, index)", "changed_spans": "(one, other)",
+        "between": "(towers, low, high)", "ranked": "(towers, first, last)",
+    },
 }
 
 

@@ -1,7 +1,7 @@
 import unittest
 from itertools import combinations, product
 
-from told import LONG, Case, nested, no_integers, no_rows
+from told import LONG, WRONG_TOWERS, Case, nested, no_integers, no_rows
 from tosslanes.errors import NoKey, NoKeys, NoNumber, NoTowers
 from tosslanes.towers import (
     height_of, heights, is_towers, lane, laid, lifted, links, next_key, top,
@@ -17,18 +17,6 @@ TAKERS = [
     (top, ()), (heights, ()), (height_of, (3,)), (lane, (1,)), (next_key, (None, 1)), (links, ()), (lifted, ()),
     (laid, ([],)),
 ]
-
-# What is no towers, and the index that is told.
-WRONG = [
-    ([3], 0), ([(3,)], 0), ([()], 0), ([(3, 1, 1)], 0), ([(3, 0)], 0), ([(3, -1)], 0), ([(3, True)], 0),
-    ([(True, 1)], 0), ([(False, 1)], 0), ([("3", 1)], 0), ([(3, "1")], 0), ([(3, None)], 0), ([(None, 1)], 0),
-    ([(3, 1), (3, 1)], 1), ([(3, 1), (2, 1)], 1), (((3, 1), (4, 1), (4, 2)), 2), (((3, 1), (4, 0), (2, 0)), 1),
-    (((3, 1), (4, 1), "51"), 2), (((3, 1), {5: 1, 6: 1}), 1), (((3, 1), {5, 6}), 1), (((3, 1), range(4, 6)), 1),
-    (((3, 1), b"aa"), 1), (((3, 1), None, (2, 1)), 1), (((3, 1), (2, 1), None), 1), (((3, 1), (2, 1), (1, 1)), 1),
-    ([(LONG, 1), (LONG - 1, 1)], 1), ([(LONG, 1), (LONG, 1)], 1), ([(3, 1), ([4], 1)], 1), ([(3, 1), (4, [1])], 1),
-    ([(5, 1), (6, 1), (7, 1), (True, 1)], 3), (nested(3), 0), ([nested(3000)], 0), ([nested(2), nested(2)], 0),
-]
-
 
 def naive_links(towers):
     """The links, told by next_key's own words alone."""
@@ -59,7 +47,7 @@ class IsTowersTests(Case):
                 self.same(is_towers(thing), True)
 
     def test_wrong(self):
-        for thing, _ in WRONG:
+        for thing, _ in WRONG_TOWERS:
             self.same(is_towers(thing), False)
 
     def test_no_row(self):
@@ -93,7 +81,7 @@ class NoTowersTests(Case):
 
     def test_first_wrong_one(self):
         for function, more in TAKERS:
-            for thing, index in WRONG:
+            for thing, index in WRONG_TOWERS:
                 with self.subTest(function.__name__, index=index):
                     self.fails(NoTowers, {"index": index}, function, thing, *more)
                     self.fails(NoTowers, {"index": index}, function, tuple(thing), *more)

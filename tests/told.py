@@ -39,6 +39,93 @@ def nested(depth):
     return row
 
 
+# What is no towers, and the index that is told.
+WRONG_TOWERS = [
+    ([3], 0), ([(3,)], 0), ([()], 0), ([(3, 1, 1)], 0), ([(3, 0)], 0), ([(3, -1)], 0), ([(3, True)], 0),
+    ([(True, 1)], 0), ([(False, 1)], 0), ([("3", 1)], 0), ([(3, "1")], 0), ([(3, None)], 0), ([(None, 1)], 0),
+    ([(3, 1), (3, 1)], 1), ([(3, 1), (2, 1)], 1), (((3, 1), (4, 1), (4, 2)), 2), (((3, 1), (4, 0), (2, 0)), 1),
+    (((3, 1), (4, 1), "51"), 2), (((3, 1), {5: 1, 6: 1}), 1), (((3, 1), {5, 6}), 1), (((3, 1), range(4, 6)), 1),
+    (((3, 1), b"aa"), 1), (((3, 1), None, (2, 1)), 1), (((3, 1), (2, 1), None), 1), (((3, 1), (2, 1), (1, 1)), 1),
+    ([(LONG, 1), (LONG - 1, 1)], 1), ([(LONG, 1), (LONG, 1)], 1), ([(3, 1), ([4], 1)], 1), ([(3, 1), (4, [1])], 1),
+    ([(5, 1), (6, 1), (7, 1), (True, 1)], 3), (nested(3), 0), ([nested(3000)], 0), ([nested(2), nested(2)], 0),
+]
+
+NO_RULES = [
+    (), [], ("free", 1), ("free", None), ("cap",), ("cap", 0), ("cap", 65), ("cap", -1), ("cap", LONG), ("cap", True),
+    ("cap", "3"), ("cap", None), ("cap", [3]), ("cap", 3, 3), ("step", 0), ("step", 65), ("step", -1),
+    ("step", True), ("step", False), ("step", None), ("step", ()), ("step", 3, 3), ("Free",), ("FREE",), ("",),
+    ("free ",), ("steps",), ("cups", 3), (b"free",), (b"cap", 3), (None,), (1,), (1, 3), (True, 3), ([], 3),
+    (("free",),), [["step"]], [("cap", 3)], (3, "cap"), nested(3), nested(3000), ["free", "free"], "step", "cap",
+]
+
+NO_CHANCES = [
+    (0, 1), (1, 1), (2, 1), (-1, 2), (1, -2), (1, 1001), (1000, 1001), (1,), (1, 2, 3), (), (True, 2),
+    (1, True), ("1", 2), (1, "2"), [None, 2], ((1, 2),), (False, 1),
+]
+
+NO_HISTORIES = [
+    ([("insert",)], 0), ([("insert", 1, 1)], 0), ([("Insert", 1)], 0), ([("put", 1)], 0), ([("insert", "1")], 0),
+    ([("remove", None)], 0), ([("seek", True)], 0), ([("seek", False)], 0), ([()], 0), ([[]], 0), (["seek"], 0),
+    ([(1, "seek")], 0), ([(None, 1)], 0), ([(["seek"], 1)], 0), ([(b"seek", 1)], 0), ([nested(3000)], 0),
+    ([("seek", [1])], 0), ([{"seek": 1, "b": 2}], 0), ([("if", 1, 1, (), ())], 0), ([("tallest", "remove")], 0),
+    ([("seek", 1), ("insert", 1), ("", 1), None], 2), ((("seek", 1), None, ("", 1)), 1), ([("seek", 1), 1], 1),
+]
+
+
+def _indexed(wrong):
+    return [(thing, {"index": index}) for thing, index in wrong] + [(thing, {"index": -1}) for thing in no_rows()]
+
+
+def of_towers():
+    """Things that are no towers, each with what NoTowers tells."""
+    return _indexed(WRONG_TOWERS)
+
+
+def of_history():
+    return _indexed(NO_HISTORIES)
+
+
+def of_rows(*wrong):
+    """Rows whose third element is wrong, and so are others behind it; and what is no row."""
+    rows = [([1, 1, thing, None, thing], {"index": 2}) for thing in no_integers() + list(wrong)]
+    return rows + [((thing,), {"index": 0}) for thing in no_integers() + list(wrong)] + [
+        (thing, {"index": -1}) for thing in no_rows()
+    ]
+
+
+def of_key():
+    return [(thing, {"key": thing}) for thing in no_integers()]
+
+
+def of_number(*wrong):
+    return [(thing, {"value": thing}) for thing in no_integers() + list(wrong)]
+
+
+def of_manner():
+    wrong = ["Plain", "plain ", "", "leaner", b"plain", ["plain"], ("plain",), 0, 1, 3]
+    return [(thing, {}) for thing in odd_things() + wrong]
+
+
+def of_rule(*wrong):
+    return [(thing, {}) for thing in NO_RULES + list(wrong) + no_rows()]
+
+
+def of_chance():
+    return [(thing, {}) for thing in NO_CHANCES + no_rows()]
+
+
+def spoil(thing):
+    """Change all lists and dicts of a result."""
+    if isinstance(thing, dict):
+        thing["more"] = thing.popitem() if thing else None
+    elif isinstance(thing, (list, tuple)):
+        for part in thing:
+            spoil(part)
+        if isinstance(thing, list):
+            thing.append("more")
+            thing.reverse()
+
+
 class Case(unittest.TestCase):
     def same(self, found, wanted):
         """The same value, of the same types throughout (True is not 1, a list is no tuple)."""
@@ -64,9 +151,7 @@ class Case(unittest.TestCase):
         first = function(*values)
         self.same(values, ahead)
         told = copy.deepcopy(first)
-        if isinstance(first, list):
-            first.append("more")
-            first.reverse()
+        spoil(first)
         second = function(*values)
         self.same(second, told)
         self.same(values, ahead)
@@ -74,3 +159,19 @@ class Case(unittest.TestCase):
         for value in values:
             self.assertFalse(isinstance(value, list) and second is value)
         return told
+
+    def refuses(self, function, right, checks):
+        """Each argument that is wrong is told, also if all that is checked behind it is wrong, too.
+
+        The checks stand in their order: (place of the argument, error, things with what the error tells of them).
+        """
+        for at, (place, error, things) in enumerate(checks):
+            for thing, told in things:
+                with self.subTest(function.__name__, place=place):
+                    values = list(right)
+                    values[place] = thing
+                    self.fails(error, told, function, *values)
+                    for later, _, others in checks[at + 1:]:
+                        if later != place:
+                            values[later] = others[0][0]
+                    self.fails(error, told, function, *values)

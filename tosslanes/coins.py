@@ -1,7 +1,7 @@
 """Coins: the heights that they give, by rules that tell how far a tower may grow."""
 
 from tosslanes.checks import check_number, first_wrong, is_row, is_whole
-from tosslanes.errors import NoCoins, NoHeights, NoRule, Short, Spare
+from tosslanes.errors import NoChance, NoCoins, NoHeights, NoRule, Short, Spare
 
 GREATEST_LIMIT = 64
 GREATEST_BELOW = 1000
@@ -94,6 +94,12 @@ def check_heights(heights):
     index = first_wrong(heights, _is_height)
     if index is not None:
         raise NoHeights(index)
+
+
+def check_chance(chance):
+    """Raise NoChance if an object is no chance."""
+    if not is_chance(chance):
+        raise NoChance()
 
 
 def check_rule(rule):

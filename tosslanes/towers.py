@@ -94,6 +94,19 @@ def wrong_tower(thing):
     return None
 
 
+def count_below(towers, key):
+    """Return how many keys of towers are less than a key: the index at which it stands, or would stand."""
+    low = 0
+    high = len(towers)
+    while low < high:
+        middle = (low + high) // 2
+        if towers[middle][0] < key:
+            low = middle + 1
+        else:
+            high = middle
+    return low
+
+
 def _is_pair(thing):
     """Return whether an object is a pair (key, height)."""
     if not is_row(thing) or len(thing) != 2:
