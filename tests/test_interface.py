@@ -46,6 +46,24 @@ INTERFACE = {
         "spans": "(towers)", "rank": "(towers, key)", "nth": "(towers, index)", "changed_spans": "(one, other)",
         "between": "(towers, low, high)", "ranked": "(towers, first, last)",
     },
+    "scores": {
+        "is_scored": "(thing)", "added": "(items, name, score, height)", "dropped": "(items, name)",
+        "place_of": "(items, name)", "by_scores": "(items, low, high)", "by_names": "(items, score, low, high)",
+        "as_towers": "(items)",
+    },
+    "joins": {
+        "joined": "(one, other)", "split": "(towers, key)", "cut_out": "(towers, low, high)", "union": "(one, other)",
+        "both": "(one, other)", "less": "(one, other)", "join_cost": "(one, other)", "split_cost": "(towers, key)",
+        "merge_steps": "(one, other)",
+    },
+    "fingers": {
+        "finger_steps": "(towers, finger, key)", "finger_cost": "(towers, finger, key)", "walk": "(towers, keys)",
+    },
+    "kinds": {
+        "gaps": "(towers, level)", "is_gapped": "(towers, least, most)", "gapped_sizes": "(top, least, most)",
+        "gapped_count": "(many, least, most)", "put_gapped": "(towers, key)", "out_gapped": "(towers, key)",
+        "branches": "(towers)", "from_branches": "(tree)", "perfect": "(keys)", "is_perfect": "(towers)",
+    },
 }
 
 

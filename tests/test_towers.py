@@ -204,7 +204,8 @@ class LinksTests(Case):
         for towers in small_towers():
             with self.subTest(towers):
                 self.same(links(towers), naive_links(towers))
-                self.same(links(towers), [(key, level, next_key(towers, key, level)) for key, level, _ in links(towers)])
+                found = links(towers)
+                self.same(found, [(key, level, next_key(towers, key, level)) for key, level, _ in found])
 
     def test_many(self):
         towers = [(key, 1 + key * key % 64) for key in range(1000)]

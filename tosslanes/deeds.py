@@ -4,7 +4,7 @@ from tosslanes.checks import check_key, check_number, first_wrong, is_row, is_wh
 from tosslanes.coins import check_coins, check_rule, coins_within, grown, limit_of
 from tosslanes.errors import NoHistory, NoKey, NoRule, Short
 from tosslanes.searches import SKIPPING, check_manner, cost_in, has_key
-from tosslanes.towers import check_towers, count_below, links
+from tosslanes.towers import as_tuples, check_towers, count_below, links, tallest
 
 WORDS = ("insert", "remove", "seek")
 
@@ -100,11 +100,6 @@ def check_history(history):
         raise NoHistory(index)
 
 
-def as_tuples(towers):
-    """Return towers as a tuple of tuples."""
-    return tuple([(key, height) for key, height in towers])
-
-
 def with_tower(towers, key, height):
     """Return the towers with a key that is not there."""
     place = count_below(towers, key)
@@ -129,9 +124,8 @@ def _done(history, coins, rule, manner):
         costs.append(cost_in(towers, key, manner if word == "seek" else other_manner))
         is_there = has_key(towers, key)
         if word == "insert" and not is_there:
-            top = max([height for other, height in towers], default=0)
             try:
-                height, used = grown(coins, used, limit_of(rule, top))
+                height, used = grown(coins, used, limit_of(rule, tallest(towers)))
             except Short:
                 raise Short(index) from None
             towers = with_tower(towers, key, height)

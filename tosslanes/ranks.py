@@ -2,8 +2,8 @@
 
 from tosslanes.checks import check_key, check_number
 from tosslanes.errors import NoNumber
-from tosslanes.searches import cost_in
-from tosslanes.towers import check_towers, count_below, links
+from tosslanes.searches import cost_in, next_place
+from tosslanes.towers import check_towers, count_below, links, tallest
 
 
 def spans(towers):
@@ -29,12 +29,12 @@ def nth(towers, index):
     check_number(index, 0)
     if index >= len(towers):
         raise NoNumber(index)
-    level = max([height for key, height in towers])
+    level = tallest(towers)
     rights = 0
     downs = 0
     place = 0
     while place < index + 1:
-        ahead = _next_place(towers, place, level)
+        ahead = next_place(towers, place, level) + 1
         if ahead <= index + 1:
             rights += 1
             place = ahead
@@ -79,13 +79,6 @@ def ranked(towers, first, last):
 def _places(towers):
     """Return the dict from each key to its place: its rank and 1, as the head has the place 0."""
     return {key: index + 1 for index, (key, height) in enumerate(towers)}
-
-
-def _next_place(towers, place, level):
-    """Return the place of the next key of a lane, that behind the last key if there is none."""
-    while place < len(towers) and towers[place][1] < level:
-        place += 1
-    return place + 1
 
 
 def _spans_by_link(towers):

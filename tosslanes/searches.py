@@ -4,7 +4,7 @@ from tosslanes.checks import check_key, check_number
 from tosslanes.coins import GREATEST_LIMIT, check_heights
 from tosslanes.counts import cost_counts
 from tosslanes.errors import NoManner
-from tosslanes.towers import check_towers, count_below, top
+from tosslanes.towers import check_towers, count_below, tallest
 
 MANNERS = ("plain", "lean", "early", "sharp")
 # In these a comparison tells less, equal or greater.
@@ -16,25 +16,7 @@ SKIPPING = ("lean", "sharp")
 def steps(towers, key, manner, begin=None):
     """Return the list of the steps of a search, which begins in the top lane or in the lane `begin`."""
     _check_search(towers, key, manner, begin)
-    told = []
-    at = 0
-    left_at = None
-    level = top(towers) if begin is None else begin
-    while level > 0:
-        ahead = _next_place(towers, at, level)
-        other = towers[ahead][0] if ahead < len(towers) else None
-        step = _step(level, other, key, manner, left_at)
-        told.append(step)
-        if step[0] == "found":
-            return told
-        if step[0] == "right":
-            at = ahead + 1
-        else:
-            left_at = other
-            level -= 1
-    if manner not in THREE_WAY and at < len(towers):
-        told.append(("look", towers[at][0]))
-    return told
+    return steps_from(towers, key, manner, 0, tallest(towers) if begin is None else begin)
 
 
 def cost(towers, key, manner, begin=None):
@@ -65,7 +47,7 @@ def total(towers, manner):
 def records(heights):
     """Return (weak, strict): how many weak and how many strict records a row of heights has."""
     check_heights(heights)
-    return weak_records(heights, 1), strict_records(heights)
+    return len(weak_records(heights, 1)), strict_records(heights)
 
 
 def ways(many, index, cap, manner):
@@ -97,10 +79,38 @@ def has_key(towers, key):
 
 def lasts_before(towers, key):
     """Return what before returns, for arguments that are right."""
-    lasts = [None] * max([height for other, height in towers], default=0)
+    lasts = [None] * tallest(towers)
     for other, height in towers[:count_below(towers, key)]:
         lasts[:height] = [other] * height
     return lasts
+
+
+def steps_from(towers, key, manner, at, level):
+    """Return the list of the steps of a search from a place (as many keys are up to it) in a lane."""
+    told = []
+    left_at = None
+    while level > 0:
+        ahead = next_place(towers, at, level)
+        other = towers[ahead][0] if ahead < len(towers) else None
+        step = _step(level, other, key, manner, left_at)
+        told.append(step)
+        if step[0] == "found":
+            return told
+        if step[0] == "right":
+            at = ahead + 1
+        else:
+            left_at = other
+            level -= 1
+    if manner not in THREE_WAY and at < len(towers):
+        told.append(("look", towers[at][0]))
+    return told
+
+
+def next_place(towers, at, level):
+    """Return the index of the first tower of a lane from a place on, the number of towers if there is none."""
+    while at < len(towers) and towers[at][1] < level:
+        at += 1
+    return at
 
 
 def cost_in(towers, key, manner, begin=None):
@@ -115,7 +125,7 @@ def cost_in(towers, key, manner, begin=None):
     least = 1
     if manner in THREE_WAY and right and towers[place][0] == key:
         least = right[0]
-    rights = weak_records(left, least)
+    rights = len(weak_records(left, least))
     stops = strict_records(right) if manner in SKIPPING else max(right, default=0)
     # A search that finds its key in a higher lane does not stop ahead of it in the lanes below.
     if manner == "early" and right:
@@ -126,14 +136,14 @@ def cost_in(towers, key, manner, begin=None):
 
 
 def weak_records(heights, least):
-    """Return how many heights are at least the least one, and exceeded by no height before them."""
-    many = 0
+    """Return the list of the heights that are at least the least one, and exceeded by no height before them."""
+    found = []
     greatest = least
     for height in heights:
         if height >= greatest:
-            many += 1
+            found.append(height)
             greatest = height
-    return many
+    return found
 
 
 def strict_records(heights):
@@ -159,13 +169,6 @@ def _check_search(towers, key, manner, begin):
     check_manner(manner)
     if begin is not None:
         check_number(begin, 1, GREATEST_LIMIT)
-
-
-def _next_place(towers, at, level):
-    """Return the index of the first tower of a lane from a place on, the number of towers if there is none."""
-    while at < len(towers) and towers[at][1] < level:
-        at += 1
-    return at
 
 
 def _step(level, other, key, manner, left_at):

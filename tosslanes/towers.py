@@ -11,7 +11,8 @@ def is_towers(thing):
 
 def top(towers):
     """Return the greatest height, 0 if there is no key."""
-    return max(heights(towers), default=0)
+    check_towers(towers)
+    return tallest(towers)
 
 
 def heights(towers):
@@ -92,6 +93,16 @@ def wrong_tower(thing):
         if index > 0 and pair[0] <= thing[index - 1][0]:
             return index
     return None
+
+
+def tallest(towers):
+    """Return what top returns, for towers that are known to be right."""
+    return max([height for key, height in towers], default=0)
+
+
+def as_tuples(towers):
+    """Return towers as a tuple of tuples."""
+    return tuple([(key, height) for key, height in towers])
 
 
 def count_below(towers, key):
