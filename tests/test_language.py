@@ -80,6 +80,39 @@ class LanguageTests(unittest.TestCase):
             defined += [part.targets[0].id for part in tree.body if isinstance(part, ast.Assign)]
             self.assertLessEqual(set(names), set(defined))
 
+    def test_powers(self):
+        # A power with an exponent that is computed is made by a loop.
+        for name, text in self.files():
+            for node in ast.walk(ast.parse(text)):
+                if isinstance(node, (ast.BinOp, ast.AugAssign)) and isinstance(node.op, ast.Pow):
+                    exponent = node.right if isinstance(node, ast.BinOp) else node.value
+                    self.assertIsInstance(exponent, ast.Constant, name)
+                    self.assertIn(exponent.value, range(65), name)
+
+    def test_names_of_imports_and_classes(self):
+        for name, text in self.files():
+            tree = ast.parse(text)
+            imports = [alias.name for node in tree.body if isinstance(node, ast.ImportFrom) for alias in node.names]
+            used = [node.id for node in ast.walk(tree) if isinstance(node, ast.Name)]
+            self.assertEqual([one for one in imports if one not in used], [], name)
+            taken = imports + [node.name for node in tree.body if isinstance(node, ast.ClassDef)]
+            again = list(bound_names(tree))
+            self.assertEqual([one for one in imports if one in again], [], name)
+            self.assertEqual([one for one in taken if again.count(one) > 1], [], name)
+
+    def test_attributes(self):
+        """No attribute that is assigned has the name of a method, of its class or of a builtin value."""
+        barred = dir([]) + dir({}) + dir("") + dir(0) + dir(set())
+        allowed = ["count", "index", "title", "find", "get", "join", "lower", "upper", "split", "strip", "copy", "add"]
+        for name, text in self.files():
+            for part in ast.walk(ast.parse(text)):
+                if isinstance(part, ast.ClassDef):
+                    methods = [node.name for node in part.body if isinstance(node, ast.FunctionDef)]
+                    for node in ast.walk(part):
+                        if isinstance(node, ast.Attribute) and isinstance(node.ctx, ast.Store):
+                            self.assertNotIn(node.attr, methods, name)
+                            self.assertTrue(node.attr in allowed or node.attr not in barred, node.attr)
+
     def test_builtins(self):
         there = [name for name in dir(builtins) if not name.startswith("__")]
         for file, text in self.files():

@@ -9,7 +9,9 @@ from tosslanes.endless import Endless
 from tosslanes.errors import NoChance, NoManner, NoRule, NoSort
 from tosslanes.pairs import Pair
 from tosslanes.searches import SKIPPING, THREE_WAY, check_manner
-from tosslanes.shares import ALL, NOTHING, binomial, dict_of, is_less, minus, plus, power, share, sum_of, sums_of, times
+from tosslanes.shares import (
+    ALL, NOTHING, binomial, dict_of, is_less, minus, plus, power, share, sum_of, sums_of, times, to_power,
+)
 
 MANY = 30
 MANY_IN_DICTS = 12
@@ -48,7 +50,7 @@ def lane_chances(chance, rule, many, level):
     check_number(many, 0, MANY_IN_DICTS)
     check_number(level, 1, GREATEST_LIMIT)
     lower, below = _heights(chance, rule, many).at_most(level - 1)
-    return dict_of(binomial(lower, below - lower, many), below ** many)
+    return dict_of(binomial(lower, below - lower, many), to_power(below, many))
 
 
 def links_mean(chance, rule, many):
@@ -74,8 +76,8 @@ def coins_chance(chance, rule, many, count):
         others = many - ends
         if left >= others:
             ways = comb(many, ends) * _parted(left, others, greatest)
-            rows += ways * part ** (count - others) * (below - part) ** others
-    return share(rows, below ** count)
+            rows += ways * to_power(part, count - others) * to_power(below - part, others)
+    return share(rows, to_power(below, count))
 
 
 def coins_mean(chance, rule, many):

@@ -1,6 +1,6 @@
 """Counts of rows of heights up to a cap: each row counts as the product of the weights of its heights."""
 
-from tosslanes.shares import added, folded, scaled
+from tosslanes.shares import added, folded, scaled, to_power
 
 
 def cost_counts(weights, before, behind, manner):
@@ -43,7 +43,7 @@ def further_records(weights, many, is_weak):
 
 def top_counts(weights, many):
     """Return, by the top, the counts of rows of so many heights."""
-    powers = [total ** many for total in sums_to(weights)]
+    powers = [to_power(total, many) for total in sums_to(weights)]
     return [powers[0]] + _differences(powers)
 
 
@@ -71,7 +71,7 @@ def _one_more(rows, weights, sums, is_weak):
 
 def _rises(weights, many):
     """Return, for each height (from 0), the counts by how much the top of it and of so many more is above it."""
-    powers = [total ** many for total in sums_to(weights)]
+    powers = [to_power(total, many) for total in sums_to(weights)]
     return [[powers[at]] + _differences(powers[at:]) for at in range(len(powers))]
 
 

@@ -6,7 +6,9 @@ polynomial in x, and the mean of x ** e over all heights is (1 - p) / (1 - p ** 
 
 from math import comb
 
-from tosslanes.shares import NOTHING, added, binomial, folded, minus, moments, plus, power, scaled, share, spread
+from tosslanes.shares import (
+    ALL, NOTHING, added, binomial, folded, minus, moments, plus, power, powers_of, scaled, share, spread, to_power,
+)
 
 
 class Endless:
@@ -18,24 +20,26 @@ class Endless:
 
     def __init__(self, chance, many):
         self.part, self.whole = share(chance[0], chance[1])
-        self.gaps = [self.whole ** at - self.part ** at for at in range(many + 1)]
+        self.parts = powers_of(self.part, many)
+        self.wholes = powers_of(self.whole, many)
+        self.gaps = [self.wholes[at] - self.parts[at] for at in range(many + 1)]
         self.below = 1
         for gap in self.gaps[1:]:
             self.below *= gap
 
     def at_most(self, height):
         """Return the chance that a key is at most so high."""
-        return minus((1, 1), power((self.part, self.whole), height))
+        return minus(ALL, power((self.part, self.whole), height))
 
     def top_mean(self, many):
         """Return the mean of the top of so many keys."""
-        return share(sum(self._rise_row(many, self.whole)), self.below)
+        return share(sum(self._rise_row(many, self.wholes)), self.below)
 
     def record_chance(self, many, is_weak):
         """Return the chance that one height behind so many others is a record of them."""
         if is_weak:
             lower = binomial(self.whole, -self.part, many)
-            return share(self._mean_over(lower), self.below * self.whole ** many)
+            return share(self._mean_over(lower), self.below * self.wholes[many])
         return share(self._mean_over(binomial(1, -1, many)), self.below)
 
     def record_counts(self, many, is_weak):
@@ -55,7 +59,7 @@ class Endless:
             for other, right in enumerate(_reaching(behind, self.part, self.whole)):
                 row = added(row, scaled(self._mean_over(folded(left, right)), rights[other]))
             counts = added(counts, folded(lefts[many], row))
-        return [0] + counts, self.below ** 3 * self.whole ** behind
+        return [0] + counts, self.below ** 3 * self.wholes[behind]
 
     def cost_at_most(self, before, behind, manner, compares):
         """Return the chance that a search makes at most so many comparisons."""
@@ -80,8 +84,8 @@ class Endless:
             return self._early_spread(before, behind)
         if manner == "plain":
             counts, below = self.record_counts(before, True)
-            rises = self._rise_row(behind + 1, self.whole)
-            squares = self._rise_squares(behind + 1, self.whole)
+            rises = self._rise_row(behind + 1, self.wholes)
+            squares = self._rise_squares(behind + 1, self.wholes)
             top_spread = spread(sum(rises) * self.below, sum(squares), self.below ** 2)
         else:
             counts, below = self.cost_row(before, behind, manner)
@@ -93,7 +97,7 @@ class Endless:
         """Return the mean of a polynomial in x over all heights of a key, times below."""
         rest = self.whole - self.part
         return sum([
-            count * rest * self.whole ** at * (self.below // self.gaps[at + 1]) for at, count in enumerate(row)
+            count * rest * self.wholes[at] * (self.below // self.gaps[at + 1]) for at, count in enumerate(row)
         ])
 
     def _record_rows(self, many, is_weak):
@@ -104,7 +108,7 @@ class Endless:
             # Further records are those of the heights that reach (or exceed) the first one.
             row = []
             for count, chance in enumerate(_reaching(others, part, whole)):
-                row = added(row, scaled(self._mean_over(chance) // whole ** others, rows[count]))
+                row = added(row, scaled(self._mean_over(chance) // to_power(whole, others), rows[count]))
             rows.append([0] + [count // self.below for count in row])
         return rows
 
@@ -113,9 +117,9 @@ class Endless:
         count = 0
         for rights, chance in enumerate(self._record_rows(before, True)[before][:compares]):
             rise = compares - 1 - rights
-            lower = (self.whole ** rise - self.part ** rise) * self.whole ** rights
-            count += chance * lower ** many
-        return share(count, self.below * self.whole ** (max(compares - 1, 0) * many))
+            lower = (to_power(self.whole, rise) - to_power(self.part, rise)) * to_power(self.whole, rights)
+            count += chance * to_power(lower, many)
+        return share(count, self.below * to_power(self.whole, max(compares - 1, 0) * many))
 
     def _early_at_most(self, before, behind, compares):
         """Return what cost_at_most returns for the manner early."""
@@ -127,9 +131,9 @@ class Endless:
             for many in range(rights, before + 1):
                 left = added(left, scaled(lefts[many][rights], reaching[many]))
             rise = compares - rights
-            lower = binomial(self.whole ** rise, -self.part ** rise, behind)
-            count += self._mean_over(folded(left, lower)) * self.whole ** (rights * behind)
-        return share(count, self.below ** 2 * self.whole ** (compares * behind))
+            lower = binomial(to_power(self.whole, rise), -to_power(self.part, rise), behind)
+            count += self._mean_over(folded(left, lower)) * to_power(self.whole, rights * behind)
+        return share(count, self.below ** 2 * to_power(self.whole, compares * behind))
 
     def _early_spread(self, before, behind):
         """Return what cost_spread returns for the manner early."""
@@ -140,26 +144,26 @@ class Endless:
             whole, first, second = moments(row)
             lefts = added(lefts, scaled(first, chance))
             left_squares = added(left_squares, scaled(second, chance))
-        rises = self._rise_row(behind, self.part)
-        squares = added(scaled(self.below, left_squares), self._rise_squares(behind, self.part))
+        rises = self._rise_row(behind, self.parts)
+        squares = added(scaled(self.below, left_squares), self._rise_squares(behind, self.parts))
         squares = added(squares, scaled(2, folded(lefts, rises)))
         mean = self._mean_over(added(lefts, rises))
         return spread(mean * self.below, self._mean_over(squares), self.below ** 3)
 
-    def _rise_row(self, many, base):
+    def _rise_row(self, many, powers):
         """Return, by the powers of x, the mean rise from a height to the top of so many keys, times below.
 
-        The base is the part for heights of a key; for the top itself it is the whole, as if x were 1 / p.
+        The powers are the parts for the height of a key; for the top itself they are the wholes, as if x were 1 / p.
         """
         return [0] + [
-            _by_turns(many, at) * base ** at * (self.below // self.gaps[at]) for at in range(1, many + 1)
+            _by_turns(many, at) * powers[at] * (self.below // self.gaps[at]) for at in range(1, many + 1)
         ]
 
-    def _rise_squares(self, many, base):
+    def _rise_squares(self, many, powers):
         """Return what _rise_row returns for the squares of the rises, times below ** 2."""
-        sums = [self.part ** at + self.whole ** at for at in range(many + 1)]
+        sums = [self.parts[at] + self.wholes[at] for at in range(many + 1)]
         return [0] + [
-            _by_turns(many, at) * base ** at * sums[at] * (self.below // self.gaps[at]) ** 2
+            _by_turns(many, at) * powers[at] * sums[at] * (self.below // self.gaps[at]) ** 2
             for at in range(1, many + 1)
         ]
 
@@ -175,6 +179,6 @@ def _reaching(many, part, whole):
     A key does so with the chance x * part / whole: 1 / 1 to be as high, p to be higher. All are times whole ** many.
     """
     return [
-        [0] * count + scaled(comb(many, count) * part ** count, binomial(whole, -part, many - count))
+        [0] * count + scaled(comb(many, count) * to_power(part, count), binomial(whole, -part, many - count))
         for count in range(many + 1)
     ]

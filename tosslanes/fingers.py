@@ -94,14 +94,13 @@ def _cost(towers, finger, key):
         ups = min(max(passed, default=0), tall - 1)
         level = ups + 1
         turns = level < tall and stop >= level
-        rights = [height for height in weak if height < level]
-        if level == tall:
-            rights += [height for height in passed if height == tall]
+        # From the top lane it goes right there, too: what is passed is this high only if it begins there.
+        rights = [height for height in weak if height < level] + [height for height in passed if height == tall]
     else:
         ups = max(heights[place:start], default=0)
         level = min(ups + 1, tall)
         turns = ups < tall and max(weak, default=0) >= level
-        rights = [height for height in weak if height <= ups or ups == tall]
+        rights = [height for height in weak if height <= ups]
     # Each move up and to the right compares, and so does each lane whose next key is not less than the one sought.
     compares = ups + len(rights) + min(stop, level)
     if turns:

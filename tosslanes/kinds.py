@@ -4,7 +4,7 @@ from tosslanes.checks import check_key, check_new_keys, check_number, is_row, is
 from tosslanes.deeds import with_tower, without_key
 from tosslanes.errors import NoGaps, NoKey, NoTree
 from tosslanes.searches import has_key
-from tosslanes.shares import folded
+from tosslanes.shares import folded, to_power
 from tosslanes.towers import check_towers, count_below, tallest
 
 LEAST_GAP = 1
@@ -30,7 +30,7 @@ def gapped_sizes(top, least, most):
     """Return (fewest, most) keys that gapped towers with this top can have."""
     check_number(top, 0, 12)
     _check_bounds(least, most)
-    return (least + 1) ** top - 1, (most + 1) ** top - 1
+    return to_power(least + 1, top) - 1, to_power(most + 1, top) - 1
 
 
 def gapped_count(many, least, most):

@@ -5,7 +5,7 @@ has the chances of its keys put into nothing; and lanes are alike if as many key
 """
 
 from tosslanes.searches import SKIPPING, THREE_WAY
-from tosslanes.shares import share
+from tosslanes.shares import share, to_power
 
 
 class Pair:
@@ -25,7 +25,7 @@ class Pair:
         for size in range(1, many + 1):
             self.below *= self._gap(size)
         if cap is not None:
-            self.below = self.whole ** (many * (cap - 1))
+            self.below = to_power(self.whole, many * (cap - 1))
 
     def counts(self):
         """Return (counts, below): the chances, by pairs of numbers of comparisons."""
@@ -68,8 +68,8 @@ class Pair:
     def _gap(self, size):
         """Return what is left for so many keys, in multiples of 1 / whole ** size, if all going on is solved for."""
         if self.cap is None:
-            return self.whole ** size - self.part ** size
-        return self.whole ** size
+            return to_power(self.whole, size) - to_power(self.part, size)
+        return to_power(self.whole, size)
 
     def _moves(self, lane, kinds):
         """Return the dict from each (kind of lane above, comparisons of both) to its chance times whole ** size."""
@@ -78,7 +78,7 @@ class Pair:
         above = lane
         while above >= 0:
             going = _size(above)
-            weight = self.part ** going * (self.whole - self.part) ** (size - going)
+            weight = to_power(self.part, going) * to_power(self.whole - self.part, size - going)
             one, other = [_compares(lane, above, key, self.manner) for key in self.sought]
             move = (kinds[above], one, other)
             moves[move] = moves.get(move, 0) + weight

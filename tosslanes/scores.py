@@ -27,7 +27,7 @@ def added(items, name, score, height):
 def dropped(items, name):
     """Return the scored row without a name that is there."""
     _check_items(items)
-    if not _is_name(name) or _rank(items, name) is None:
+    if _rank(items, name) is None:
         raise NoName(name)
     return tuple([row for row in _as_tuples(items) if row[1] != name])
 

@@ -128,7 +128,7 @@ def cost_in(towers, key, manner, begin=None):
     rights = len(weak_records(left, least))
     stops = strict_records(right) if manner in SKIPPING else max(right, default=0)
     # A search that finds its key in a higher lane does not stop ahead of it in the lanes below.
-    if manner == "early" and right:
+    if manner == "early":
         stops -= least - 1
     if manner not in THREE_WAY and right:
         stops += 1

@@ -27,9 +27,29 @@ def times(one, other):
     return share(one[0] * other[0], one[1] * other[1])
 
 
+def to_power(base, exponent):
+    """Return an integer to the power of an integer from 0."""
+    product = 1
+    while exponent > 0:
+        if exponent & 1:
+            product *= base
+        exponent >>= 1
+        if exponent > 0:
+            base *= base
+    return product
+
+
+def powers_of(base, greatest):
+    """Return the list of the powers of an integer, from 0 to the greatest one."""
+    powers = [1]
+    for _ in range(greatest):
+        powers.append(powers[-1] * base)
+    return powers
+
+
 def power(one, exponent):
     """Return a fraction to the power of an integer from 0."""
-    return one[0] ** exponent, one[1] ** exponent
+    return to_power(one[0], exponent), to_power(one[1], exponent)
 
 
 def sum_of(shares):
@@ -83,9 +103,9 @@ def folded(one, other):
 
 def binomial(first, second, exponent):
     """Return the polynomial (first + second * x) ** exponent."""
-    return [
-        comb(exponent, at) * first ** (exponent - at) * second ** at for at in range(exponent + 1)
-    ]
+    firsts = powers_of(first, exponent)
+    seconds = powers_of(second, exponent)
+    return [comb(exponent, at) * firsts[exponent - at] * seconds[at] for at in range(exponent + 1)]
 
 
 def moments(counts):
