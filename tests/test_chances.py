@@ -373,11 +373,15 @@ class NoKeyTests(ChanceCase):
                 self.same(cut_by(chance, 3, 0, manner), (0, 1))
                 for function in (cost_chances, cost_mean, cost_spread, rights_mean, downs_mean):
                     self.fails(NoNumber, {"value": 0}, function, chance, rule, 0, 0, manner)
+                    self.fails(NoNumber, {"value": 3}, function, chance, rule, 0, 3, manner)
                 for function in (cost_chance, cost_above):
                     self.fails(NoNumber, {"value": 0}, function, chance, rule, 0, 0, manner, 1)
                 for function in (pair_chances, pair_mean):
                     self.fails(NoNumber, {"value": 0}, function, chance, rule, 0, 0, 1, manner)
                     self.fails(NoNumber, {"value": 0}, function, chance, rule, 1, 0, 0, manner)
+                    # No keys are no wrong number of keys: it is the index that is wrong.
+                    self.fails(NoNumber, {"value": 3}, function, chance, rule, 0, 3, 5, manner)
+                    self.fails(NoNumber, {"value": 5}, function, chance, rule, 4, 3, 5, manner)
 
 
 class GreatestTests(ChanceCase):

@@ -92,8 +92,6 @@ def scaled(factor, row):
 
 def folded(one, other):
     """Return the product of two polynomials."""
-    if not one or not other:
-        return []
     product = [0] * (len(one) + len(other) - 1)
     for at, count in enumerate(one):
         for place, factor in enumerate(other):
