@@ -30,7 +30,7 @@ def removed(towers, key):
 
 def new_links(one, other):
     """Return the list of the links of `other` that are none of `one`."""
-    there = set(links(one))
+    there = {link: True for link in links(one)}
     return [link for link in links(other) if link not in there]
 
 
