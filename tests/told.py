@@ -101,6 +101,13 @@ def of_number(*wrong):
     return [(thing, {"value": thing}) for thing in no_integers() + list(wrong)]
 
 
+def of_new_keys(*there):
+    """Rows in which an element is no integer, or was there already, and what is no row."""
+    rows = [([5, 6, thing, None], {"index": 2}) for thing in no_integers() + [5, 6, *there]]
+    rows += [((thing, thing), {"index": 0}) for thing in no_integers() + list(there)]
+    return rows + [((7, 7), {"index": 1})] + [(thing, {"index": -1}) for thing in no_rows()]
+
+
 def of_manner():
     wrong = ["Plain", "plain ", "", "leaner", b"plain", ["plain"], ("plain",), 0, 1, 3]
     return [(thing, {}) for thing in odd_things() + wrong]

@@ -24,14 +24,14 @@ SORTS = ("weak", "strict")
 
 def height_chance(chance, rule, height):
     """Return the chance that a key has this height."""
-    _check(chance, rule)
+    check_chance_and_rule(chance, rule)
     check_number(height, 1, GREATEST_LIMIT)
     return _top_chance(_heights(chance, rule, 1), 1, height)
 
 
 def top_chance(chance, rule, many, height):
     """Return the chance that the top of so many keys is this one."""
-    _check(chance, rule)
+    check_chance_and_rule(chance, rule)
     check_number(many, 0, MANY)
     check_number(height, 0, GREATEST_LIMIT)
     return _top_chance(_heights(chance, rule, many), many, height)
@@ -39,14 +39,14 @@ def top_chance(chance, rule, many, height):
 
 def top_mean(chance, rule, many):
     """Return the mean of the top of so many keys."""
-    _check(chance, rule)
+    check_chance_and_rule(chance, rule)
     check_number(many, 0, MANY)
     return _heights(chance, rule, many).top_mean(many)
 
 
 def lane_chances(chance, rule, many, level):
     """Return the dict from how many of so many keys are in a lane to the chance."""
-    _check(chance, rule)
+    check_chance_and_rule(chance, rule)
     check_number(many, 0, MANY_IN_DICTS)
     check_number(level, 1, GREATEST_LIMIT)
     lower, below = _heights(chance, rule, many).at_most(level - 1)
@@ -55,7 +55,7 @@ def lane_chances(chance, rule, many, level):
 
 def links_mean(chance, rule, many):
     """Return the mean of the number of links."""
-    _check(chance, rule)
+    check_chance_and_rule(chance, rule)
     check_number(many, 0, MANY)
     heights = _heights(chance, rule, many + 1)
     return plus(times((many, 1), heights.top_mean(1)), heights.top_mean(many))
@@ -63,7 +63,7 @@ def links_mean(chance, rule, many):
 
 def coins_chance(chance, rule, many, count):
     """Return the chance that just so many coins are tossed for the heights of so many keys."""
-    _check(chance, rule)
+    check_chance_and_rule(chance, rule)
     check_number(many, 0, MANY)
     check_number(count, 0, GREATEST_COUNT)
     part, below = share(chance[0], chance[1])
@@ -82,7 +82,7 @@ def coins_chance(chance, rule, many, count):
 
 def coins_mean(chance, rule, many):
     """Return the mean of the number of coins that are tossed for the heights of so many keys."""
-    _check(chance, rule)
+    check_chance_and_rule(chance, rule)
     check_number(many, 0, MANY)
     if rule[0] == "free":
         one = Endless(chance, 1).top_mean(1)
@@ -96,7 +96,7 @@ def coins_mean(chance, rule, many):
 
 def record_chances(chance, rule, many, sort):
     """Return the dict from the number of records of so many heights to the chance."""
-    _check(chance, rule)
+    check_chance_and_rule(chance, rule)
     check_number(many, 0, MANY_IN_DICTS)
     _check_sort(sort)
     counts, below = _heights(chance, rule, many).record_counts(many, sort == "weak")
@@ -105,7 +105,7 @@ def record_chances(chance, rule, many, sort):
 
 def record_mean(chance, rule, many, sort):
     """Return the mean of the number of records of so many heights."""
-    _check(chance, rule)
+    check_chance_and_rule(chance, rule)
     check_number(many, 0, MANY)
     _check_sort(sort)
     return _record_means(_heights(chance, rule, many), many, sort == "weak")[many]
@@ -148,7 +148,7 @@ def cost_spread(chance, rule, many, index, manner):
 
 def mean_total(chance, rule, many, manner):
     """Return the mean of the sum of the comparisons of searches for all keys."""
-    _check(chance, rule)
+    check_chance_and_rule(chance, rule)
     check_number(many, 0, MANY)
     check_manner(manner)
     return _mean_total(chance, rule, many, manner)
@@ -213,7 +213,7 @@ def _check_rule(rule):
         raise NoRule()
 
 
-def _check(chance, rule):
+def check_chance_and_rule(chance, rule):
     """Raise NoChance or NoRule."""
     check_chance(chance)
     _check_rule(rule)
@@ -227,7 +227,7 @@ def _check_sort(sort):
 
 def _check_search(chance, rule, many, index, manner, greatest=MANY):
     """Raise the errors of a search among so many keys, in their order."""
-    _check(chance, rule)
+    check_chance_and_rule(chance, rule)
     check_number(many, 0, greatest)
     check_number(index, 0, many - 1)
     check_manner(manner)
@@ -235,7 +235,7 @@ def _check_search(chance, rule, many, index, manner, greatest=MANY):
 
 def _check_pair(chance, rule, many, one, other, manner):
     """Raise the errors of two searches, in their order."""
-    _check(chance, rule)
+    check_chance_and_rule(chance, rule)
     if rule[0] == "cap" and rule[1] > CAP_OF_PAIRS:
         raise NoRule()
     check_number(many, 0, MANY_IN_PAIRS)

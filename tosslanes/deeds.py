@@ -46,7 +46,7 @@ def run(history, coins, rule, manner="plain"):
 def stays(history):
     """Return the sorted list of the keys that are there at the end of a history."""
     check_history(history)
-    indexes, there = _insertions(history)
+    indexes, there = insertions(history)
     return sorted(there)
 
 
@@ -70,7 +70,7 @@ def coins_to(history, towers, rule):
     check_rule(rule)
     if rule[0] == "step":
         raise NoRule()
-    indexes, there = _insertions(history)
+    indexes, there = insertions(history)
     if sorted(there) != [key for key, height in towers]:
         return None
     wanted = {there[key]: height for key, height in towers}
@@ -134,7 +134,7 @@ def _done(history, coins, rule, manner):
     return towers, used, tuple(costs)
 
 
-def _insertions(history):
+def insertions(history):
     """Return (indexes, there): of the deeds that put a key in, and from each key that stays to its last one."""
     indexes = []
     there = {}
