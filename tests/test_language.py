@@ -2,6 +2,7 @@
 
 import ast
 import builtins
+import re
 import unittest
 from pathlib import Path
 
@@ -79,6 +80,37 @@ class LanguageTests(unittest.TestCase):
             defined = [part.name for part in tree.body if isinstance(part, (ast.FunctionDef, ast.ClassDef))]
             defined += [part.targets[0].id for part in tree.body if isinstance(part, ast.Assign)]
             self.assertLessEqual(set(names), set(defined))
+
+    def test_imports_lead_to_no_file_again(self):
+        leads = {}
+        for name, text in self.files():
+            modules = [node.module for node in ast.walk(ast.parse(text)) if isinstance(node, ast.ImportFrom)]
+            leads[name] = [module.partition(".")[2] + ".py" for module in modules if module not in LIBRARY]
+        for name in leads:
+            there, waiting = [], list(leads[name])
+            while waiting:
+                other = waiting.pop()
+                if other not in there:
+                    there.append(other)
+                    waiting.extend(leads[other])
+            self.assertNotIn(name, there)
+
+    def test_identity(self):
+        # `is` stands beside None, True and False alone.
+        for name, text in self.files():
+            for node in ast.walk(ast.parse(text)):
+                if isinstance(node, ast.Compare):
+                    for sign, thing in zip(node.ops, node.comparators):
+                        if isinstance(sign, (ast.Is, ast.IsNot)):
+                            self.assertIsInstance(thing, ast.Constant, name)
+                            self.assertIn(thing.value, (None, True, False), name)
+
+    def test_words_and_signs(self):
+        words = "type typing enum Enum Flag Generic Protocol ABC register mro elements open input law"
+        barred = re.compile(r"\b(" + words.replace(" ", "|") + r")\b")
+        for name, text in self.files():
+            self.assertIsNone(barred.search(text), name)
+            self.assertNotIn(chr(37), text, name)
 
     def test_powers(self):
         # A power with an exponent that is computed is made by a loop.

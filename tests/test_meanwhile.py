@@ -107,7 +107,7 @@ def all_rows(values):
 
 
 def small_cases():
-    for towers in ((), ((5, 1),), ((3, 1), (9, 2)), ((3, 2), (9, 1))):
+    for towers in ((), ((5, 1),), ((3, 1), (9, 2)), ((3, 2), (9, 1)), ((1, 2), (5, 2)), ((1, 3), (5, 2), (9, 1))):
         acts = [("insert", key, height) for key in (1, 5, 6) for height in (1, 2)]
         acts += [("remove", key) for key, _ in towers]
         for act in acts:
@@ -228,6 +228,13 @@ class ReaderTests(Case):
         values = (((3, 1), (9, 1)), ("insert", 5, 1), "late", 9, "plain")
         self.same(answer(*values, (0, 1, 1, 1)), (False, False))
         self.same(answer(*values, (0, 1, 1, 0)), (True, True))
+
+    def test_true_at_the_begin_alone(self):
+        # The reader finds the key in lane 2 when it is gone from lane 1: it was there when the reader began.
+        values = (((1, 2), (5, 2)), ("remove", 5), "up", 5, "early")
+        self.same(answer(*values, (1, 0, 1)), (True, True))
+        self.same(answer(*values, (0, 1, 1)), (True, False))
+        self.same(bad_turns(*values), (0, 1, 1))
 
     def test_larger_rows(self):
         random = Random(19)

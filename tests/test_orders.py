@@ -257,6 +257,33 @@ class ReachTests(Case):
                 mean = sum(part * tossed for _, part, tossed in rows)
                 self.same(tosses_mean(history, (2, 5), rule), pair(mean))
 
+    def test_longer_histories_by_step(self):
+        random = Random(19)
+        for rule in (("step",), ("step", 2), ("step", 3)):
+            for _ in range(60):
+                history = [(random.choice(("insert", "insert", "remove")), random.randrange(4)) for _ in range(11)]
+                rows = played(history, (2, 5), rule)
+                if len(rows) < 2000:
+                    self.same(reach(history, rule), sorted({towers for towers, _, _ in rows}))
+                    mean = sum(part * tossed for _, part, tossed in rows)
+                    self.same(tosses_mean(history, (2, 5), rule), pair(mean))
+                    self.same(tosses_most(history, rule), max(tossed for _, _, tossed in rows))
+
+    def test_a_thousand_deeds(self):
+        begin = [("insert", key) for key in range(12)]
+        for first in (0, 5):
+            history = begin + [(word, key % 12) for key in range(first, first + 494) for word in ("remove", "insert")]
+            # By step 2 each insertion but that into nothing tosses one coin.
+            self.same(tosses_mean(history, (7, 1000), ("step", 2)), (505, 1))
+            self.same(tosses_most(history, ("step", 2)), 505)
+            self.assertEqual(len(reach(history, ("step", 2))), 4096)
+            self.same(tosses_mean(history, (1, 2), ("cap", 2)), (506, 1))
+        history = begin[:2] + [(word, key % 2) for key in range(499) for word in ("remove", "insert")]
+        self.assertEqual(tosses_most(history, ("step", 64)), sum(min(at, 63) for at in range(501)))
+        mean = Fraction(*tosses_mean(history, (1, 2), ("step", 64)))
+        # Each coin but the first one of a tower is tossed if the one before it was 1.
+        self.assertTrue(500 < mean < 1002)
+
     def test_free(self):
         for history in self.histories():
             many = len([

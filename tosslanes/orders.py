@@ -155,6 +155,8 @@ def tosses_mean(history, chance, rule):
     check_chance(chance)
     check_rule(rule)
     if rule[0] == "step":
+        # Raises if there are too many towers.
+        reached(history, rule)
         return tosses_by_step(history, chance, rule)
     if rule[0] == "free":
         one = share(chance[1], chance[1] - chance[0])
