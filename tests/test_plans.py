@@ -247,6 +247,69 @@ class ChancesTests(Case):
         self.same(parting(rule=("step",), chance=(1, 4), history=[("insert", 3)]), None)
 
 
+class SameTowersTests(Case):
+    """Where several towers come to the same ones, their chances are added."""
+
+    # With these the key 1 is there just if it is high, and the key 2 just if it is low.
+    FIRST = [("insert", 1), ("if", 1, 2, (), (("remove", 1),))]
+    SECOND = [("insert", 2), ("if", 2, 2, (("remove", 2),), ())]
+
+    def test_one_key_or_none(self):
+        for word in ("tallest", "lowest"):
+            for first in (self.FIRST, self.SECOND):
+                for chance in CHANCES:
+                    for rule in (("cap", 2), ("cap", 3)):
+                        plan = first + [(word, "remove")]
+                        self.same(chances_of(plan, chance, rule), {(): (1, 1)})
+                        self.same(alike(plan, [], chance, rule), None)
+                        self.same(mean_after(plan, 1, "plain", chance, rule), (0, 1))
+                        behind = chances_of(plan + [("insert", 3)], chance, rule)
+                        self.same(behind, alone([3], chance, rule))
+                        self.same(chances_of(plan + [(word, "again")], chance, rule), {(): (1, 1)})
+
+    def test_none_is_told_first_or_last(self):
+        # The towers without keys come of the plan that is done, or of the other one.
+        for acts in ((("remove", 1),), (("tallest", "remove"),), (("lowest", "remove"), ("lowest", "remove"))):
+            for plans in ((acts, ()), ((), acts)):
+                for word in ("tallest", "lowest"):
+                    plan = [("insert", 1), ("if", 1, 2) + plans, (word, "remove")]
+                    self.same(chances_of(plan, (1, 3), ("cap", 3)), {(): (1, 1)})
+
+    def test_several_keys_or_none(self):
+        for word in ("tallest", "lowest"):
+            for then in ("remove", "again"):
+                for rule in RULES:
+                    for many in (1, 2, 3):
+                        plan = self.FIRST + self.SECOND + [(word, then)] * many
+                        found = chances_of(plan, (1, 3), rule)
+                        self.same(found, as_told(played(plan, (1, 3), rule)))
+                        self.assertEqual(sum(Fraction(*part) for part in found.values()), 1)
+
+    def test_all_short_plans(self):
+        acts = [
+            ("insert", 1), ("insert", 2), ("remove", 1), ("tallest", "remove"), ("tallest", "again"),
+            ("lowest", "remove"), ("lowest", "again"), self.FIRST[1], self.SECOND[1],
+            ("if", 2, 1, (("tallest", "remove"),), (("insert", 2),)), ("if", 1, 1, (("insert", 2),), ()),
+        ]
+        for rule in (("cap", 2), ("step", 2)):
+            ways = [([], {(): Fraction(1)})]
+            for _ in range(3):
+                ways = [(plan + [act], played([act], (1, 3), rule, there)) for plan, there in ways for act in acts]
+                for plan, there in ways:
+                    self.same(chances_of(plan, (1, 3), rule), as_told(there))
+
+    def test_four_acts(self):
+        random = Random(19)
+        acts = [("if", key, height, one, other) for key in (1, 2) for height in (1, 2) for one in PLANS[2:7]
+                for other in ((), (("remove", key),), (("insert", 3), ("lowest", "remove")))]
+        acts += [(word, then) for word in ("tallest", "lowest") for then in ("remove", "again")] * 15
+        acts += [("insert", key) for key in (1, 2)] * 15 + [("remove", key) for key in (1, 2)] * 5
+        for _ in range(1500):
+            plan = [("insert", 1)] + [random.choice(acts) for _ in range(4)]
+            rule = random.choice((("cap", 2), ("cap", 3), ("step", 2), ("step",)))
+            self.same(chances_of(plan, (2, 3), rule), as_told(played(plan, (2, 3), rule)))
+
+
 class TooManyTests(Case):
     def test_just_as_many(self):
         def high(key, more):

@@ -42,17 +42,16 @@ class Lots:
         away = {}
         for towers, count in self.table.items():
             if _height(towers, key) > 0:
-                there[towers] = count
+                _add(there, towers, count)
             else:
-                away[(towers, key)] = count
+                _add(away, (towers, key), count)
         self._grow(there, away)
 
     def _take(self, key):
         """Remove a key from the towers in which it is."""
         table = {}
         for towers, count in self.table.items():
-            rest = _without(towers, key) if _height(towers, key) > 0 else towers
-            table[rest] = table.get(rest, 0) + count
+            _add(table, _without(towers, key) if _height(towers, key) > 0 else towers, count)
         self._keep(table)
 
     def _pick(self, is_tallest, again):
@@ -61,15 +60,15 @@ class Lots:
         away = {}
         for towers, count in self.table.items():
             if not towers:
-                table[towers] = count
+                _add(table, towers, count)
                 continue
             heights = [height for key, height in towers]
             key = towers[heights.index(max(heights) if is_tallest else min(heights))][0]
             rest = _without(towers, key)
             if again:
-                away[(rest, key)] = away.get((rest, key), 0) + count
+                _add(away, (rest, key), count)
             else:
-                table[rest] = table.get(rest, 0) + count
+                _add(table, rest, count)
         if again:
             self._grow(table, away)
         else:
@@ -86,7 +85,7 @@ class Lots:
         for part in parts:
             factor = self.below // part.below
             for towers, count in part.table.items():
-                table[towers] = table.get(towers, 0) + count * factor
+                _add(table, towers, count * factor)
         self._keep(table)
 
     def _led(self, table, plan):
@@ -113,8 +112,7 @@ class Lots:
             ahead = rest[:place]
             behind = rest[place:]
             for at, weight in enumerate(weights[limit], start=1):
-                towers = ahead + ((key, at),) + behind
-                grown[towers] = grown.get(towers, 0) + count * weight
+                _add(grown, ahead + ((key, at),) + behind, count * weight)
             check_most(grown)
         self.table = grown
         self.below *= factor
@@ -153,6 +151,11 @@ def height_weights(chance, limit, greatest):
     belows = powers_of(below, greatest - 1)
     weights = [(below - part) * parts[at] * belows[greatest - 2 - at] for at in range(limit - 1)]
     return weights + [parts[limit - 1] * belows[greatest - limit]]
+
+
+def _add(table, thing, count):
+    """Add a count to that of a thing, as several ways may come to the same one."""
+    table[thing] = table.get(thing, 0) + count
 
 
 def _height(towers, key):
